@@ -847,7 +847,7 @@ func TestCuts(t *testing.T) {
 	deeds := []deed{{record: "a"}, {record: ""}, {clear: true}, {record: "bc"}, {record: "d"}, {clear: true}, {record: "efg"}}
 	for first := range 14 {
 		for keep := range 12 {
-			for second := range 5 {
+			for second := range 14 {
 				for again := range 12 {
 					d := fresh(t, 100)
 					left, list := deeds, []string(nil)
