@@ -238,9 +238,21 @@ func TestSelect(t *testing.T) {
 		{member2(fields("membership", "leave", "membership", "join")), []api.Entry{c, p, of(al), of(bo)}},
 		{member2(fields("membership", 1, "membership", "join")), []api.Entry{c, p, of(al), of(bo)}},
 		{member2(fields("x", fields("membership", "join"))), []api.Entry{c, p, of(al), of(bo)}},
-		// One without a key is no member.
-		{keyless(member(al, bo, "join")), []api.Entry{c, p, of(al)}},
-		{keyless(member(al, al, "invite")), []api.Entry{c, p, of(al)}},
+		// One without a key is a member, too, but there is no member of its key, whatever Key says.
+		{keyless(member(al, "", "join")), []api.Entry{c, p, r, of(al)}},
+		{keyless(member(al, "", "invite")), []api.Entry{c, p, r, of(al)}},
+		{keyless(member(al, bo, "join")), []api.Entry{c, p, r, of(al)}},
+		{keyless(member(al, al, "invite")), []api.Entry{c, p, r, of(al)}},
+		{keyless(member("", "", "join")), []api.Entry{c, p, r, of("")}},
+		{keyless(member(al, bo, "leave")), []api.Entry{c, p, of(al)}},
+		{keyless(member(al, bo, "ban")), []api.Entry{c, p, of(al)}},
+		{keyless(member(al, bo, "knock")), []api.Entry{c, p, of(al)}},
+		{keyless(member2(fields())), []api.Entry{c, p, of(al)}},
+		{keyless(member2(fields("membership", "leave", "membership", "join"))), []api.Entry{c, p, of(al)}},
+		// The other names are meant with the empty key alone, and no other type's word matters.
+		{keyless(rules("public")), []api.Entry{c, p, of(al)}},
+		{keyless(state(messageType, "", al, fields("membership", "join"))), []api.Entry{c, p, of(al)}},
+		{keyless(state(createType, "", al, fields("membership", "join"))), []api.Entry{c, p, of(al)}},
 	} {
 		if got := selects(t, x.e); !slices.Equal(got, x.want) {
 			t.Errorf("Select(%s): %v; not %v", brief(x.e), got, x.want)

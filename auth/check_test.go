@@ -152,8 +152,27 @@ func TestListsOfMembers(t *testing.T) {
 			t.Errorf("%s of oneself with another one's membership: %d", word, got)
 		}
 	}
-	keyless := with(member(al, bo, "join"), func(e *api.Event) { e.HasKey = false })
-	asks(t, []row{{keyless, joined(al, rules("public")), 11}, {keyless, joined(al, bo), 11}, {keyless, joined(al), 20}, {keyless, nil, 13}})
+}
+
+// TestListsOfMembersWithoutKey: of one without a key the join rule may be in the list, but nobody's membership but the sender's.
+func TestListsOfMembersWithoutKey(t *testing.T) {
+	r := rules("public")
+	for _, word := range []string{"join", "invite", "leave", "ban", "knock", ""} {
+		for _, key := range []string{"", al, bo} {
+			e := with(member(al, key, word), func(e *api.Event) { e.HasKey = false })
+			withoutCreate, withCreate := 11, 11
+			if word == "join" || word == "invite" {
+				withoutCreate, withCreate = 13, 20
+			}
+			asks(t, []row{
+				{e, nil, 13}, {e, joined(), 20}, {e, joined(al), 20}, {e, joined(levels(al), al), 20},
+				{e, []api.Event{r}, withoutCreate}, {e, joined(r), withCreate}, {e, joined(al, r), withCreate}, {e, joined(r, levels(al), al), withCreate},
+				{e, joined(al, bo), 11}, {e, joined(bo, r), 11}, {e, joined(member(al, "", "join")), 11}, {e, joined(state(rulesType, "k", al, fields())), 11},
+				{e, joined(r, r), 10}, {e, []api.Event{with(r, func(e *api.Event) { e.HasKey = false }), create(al)}, 11},
+				{with(e, func(e *api.Event) { e.Room = "!q:x" }), joined(al), 12},
+			})
+		}
+	}
 }
 
 func TestMembersThatAreNone(t *testing.T) {

@@ -96,7 +96,7 @@ func oracleSelect(e api.Event) []api.Entry {
 		return nil
 	}
 	m := dig(e.Content, "membership")
-	member := e.Type == "m.room.member" && e.HasKey
+	member := e.Type == "m.room.member"
 	var out []api.Entry
 	for _, p := range []struct {
 		told      bool
@@ -106,7 +106,7 @@ func oracleSelect(e api.Event) []api.Entry {
 		{true, "m.room.power_levels", ""},
 		{member && (m == "join" || m == "invite"), "m.room.join_rules", ""},
 		{true, "m.room.member", e.Sender},
-		{member && e.Key != e.Sender, "m.room.member", e.Key},
+		{member && e.HasKey && e.Key != e.Sender, "m.room.member", e.Key},
 	} {
 		if p.told {
 			out = append(out, api.Entry{Type: p.kind, Key: p.key})
